@@ -1,0 +1,47 @@
+"""Checks that raise the error of a value that is not what it must be."""
+
+from middlerows.errors import BadLot, BadOrder, BadPlace, BadPlaces, BadRow, BadRule, BadWant, BadWants
+from middlerows.kinds import first_wrong_row, is_order, is_place, is_places, is_row, is_rule, is_want, is_wants
+
+
+def check_row(many, row):
+    if not is_row(many, row):
+        raise BadRow("this is no row of these places")
+
+
+def check_want(many, want):
+    if not is_want(many, want):
+        raise BadWant("this is no want of these places")
+
+
+def check_rule(many, rule):
+    if not is_rule(many, rule):
+        raise BadRule("this is no rule of these places")
+
+
+def check_wants(many, wants):
+    if not is_wants(many, wants):
+        raise BadWants("this is no ascending tuple of wants of unlike places")
+
+
+def check_order(many, order):
+    if not is_order(many, order):
+        raise BadOrder("this is no tuple of all places, each once")
+
+
+def check_places(many, places):
+    if not is_places(many, places):
+        raise BadPlaces("this is no ascending tuple of unlike places")
+
+
+def check_place(many, place):
+    if not is_place(many, place):
+        raise BadPlace("this is no place of these rows")
+
+
+def check_lot(lot):
+    if not isinstance(lot, tuple) or len(lot) == 0:
+        raise BadLot(None)
+    index = first_wrong_row(lot)
+    if index is not None:
+        raise BadLot(index)

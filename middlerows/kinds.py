@@ -1,0 +1,134 @@
+"""What is an integer, a place, a want, a rule or a row, told of any value."""
+
+MOST_PLACES = 8
+
+
+def is_integer(value):
+    # To Python True and False are integers, here they are none.
+    return isinstance(value, int) and not isinstance(value, bool)
+
+
+def is_bit(value):
+    return is_integer(value) and 0 <= value <= 1
+
+
+def is_many(value):
+    return is_integer(value) and 1 <= value <= MOST_PLACES
+
+
+def is_place(many, value):
+    return is_integer(value) and 0 <= value < many
+
+
+def is_pair(value):
+    return isinstance(value, tuple) and len(value) == 2
+
+
+def is_want(many, value):
+    return is_pair(value) and is_place(many, value[0]) and is_bit(value[1])
+
+
+def is_rule(many, value):
+    if not is_pair(value):
+        return False
+    first, second = value
+    if not is_want(many, first) or not is_want(many, second):
+        return False
+    return first <= second and first != opposite(second)
+
+
+def is_row(many, value):
+    if not isinstance(value, tuple) or len(value) != many:
+        return False
+    return all([is_bit(thing) for thing in value])
+
+
+def is_row_of_some_length(value):
+    return isinstance(value, tuple) and is_many(len(value)) and is_row(len(value), value)
+
+
+def is_wants(many, value):
+    """Whether a value is an ascending tuple of wants of unlike places."""
+    if not isinstance(value, tuple):
+        return False
+    for want in value:
+        if not is_want(many, want):
+            return False
+    # Two wants of one place would stand side by side.
+    return is_rising([place for place, _ in value])
+
+
+def is_places(many, value):
+    """Whether a value is an ascending tuple of unlike places."""
+    if not isinstance(value, tuple):
+        return False
+    for place in value:
+        if not is_place(many, place):
+            return False
+    return is_rising(value)
+
+
+def is_order(many, value):
+    """Whether a value is a tuple of all places, each once."""
+    if not isinstance(value, tuple) or len(value) != many:
+        return False
+    for place in value:
+        if not is_place(many, place):
+            return False
+    return sorted(value) == list(range(many))
+
+
+def is_rising(things):
+    for index in range(1, len(things)):
+        if things[index] <= things[index - 1]:
+            return False
+    return True
+
+
+def first_wrong_rule(many, rules):
+    """The index of the first thing that cannot stand among ascending unlike rules, or None."""
+    for index, rule in enumerate(rules):
+        if not is_rule(many, rule):
+            return index
+        if index > 0 and rule <= rules[index - 1]:
+            return index
+    return None
+
+
+def first_wrong_row(lot):
+    """The index of the first thing that cannot stand in a lot of rows, or None."""
+    for index, row in enumerate(lot):
+        if not is_row_of_some_length(row):
+            return index
+        if index > 0 and (len(row) != len(lot[0]) or row <= lot[index - 1]):
+            return index
+    return None
+
+
+def opposite(want):
+    place, value = want
+    return (place, 1 - value)
+
+
+def all_wants(many):
+    """All wants of some places, ascending."""
+    return [(place, value) for place in range(many) for value in (0, 1)]
+
+
+def all_rules(many):
+    """All rules of some places, ascending."""
+    wants = all_wants(many)
+    pairs = [(first, second) for first in wants for second in wants]
+    return [rule for rule in pairs if is_rule(many, rule)]
+
+
+def rule_of(one, other):
+    """The rule of two wants, in whichever order they come."""
+    if one <= other:
+        return (one, other)
+    return (other, one)
+
+
+def keeps_rule(row, rule):
+    (one, first), (other, second) = rule
+    return row[one] == first or row[other] == second

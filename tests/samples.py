@@ -1,0 +1,53 @@
+"""Values for the tests: all small Rules, some larger ones, some lots, and values of other kinds."""
+
+import random
+
+from middlerows.rules import Rules
+from tests import slow
+
+# Nothing of this is a row, want, rule, place, walk or Rules, nor a tuple of such, but for ().
+OTHER_KINDS = (None, True, False, 9, -1, "", "row", [], {}, {"row": (0, 0)}, ((),), (None,), [(0, 0)], 10 ** 30)
+
+
+def all_small_rules():
+    """All Rules of one place and of two."""
+    return [Rules(many, some) for many in (1, 2) for some in slow.subsets(slow.rules_of_places(many))]
+
+
+def some_rules(many, how_many, most, seed=1):
+    """So many Rules of some places, of at most so many rules each: the same ones in each run."""
+    chance = random.Random(1000 * many + seed)
+    every = slow.rules_of_places(many)
+    found = []
+    for _ in range(how_many):
+        size = chance.randrange(min(most, len(every)) + 1)
+        found.append(Rules(many, tuple(sorted(chance.sample(every, size)))))
+    return found
+
+
+def many_rules():
+    """Rules of one to five places, of few rules and of many."""
+    found = all_small_rules()
+    found += some_rules(3, 120, 7) + some_rules(3, 15, 18) + some_rules(4, 60, 9) + some_rules(5, 20, 11)
+    return found
+
+
+def few_rules():
+    """Like many_rules, but few enough for answers that take long."""
+    return all_small_rules()[::7] + some_rules(3, 40, 7, seed=2) + some_rules(4, 15, 8, seed=2)
+
+
+def wide_rules():
+    """Rules of 8 places."""
+    return [Rules(8, ()), Rules(8, tuple(slow.rules_of_places(8)))] + some_rules(8, 6, 14)
+
+
+def nobodys_rules():
+    """Rules that no row keeps."""
+    return [
+        Rules(1, (((0, 0), (0, 0)), ((0, 1), (0, 1)))),
+        Rules(2, (((0, 0), (0, 0)), ((0, 1), (1, 0)), ((0, 1), (1, 1)))),
+        Rules(2, (((0, 0), (1, 0)), ((0, 0), (1, 1)), ((0, 1), (1, 0)), ((0, 1), (1, 1)))),
+        Rules(3, tuple(slow.rules_of_places(3))),
+        Rules(8, (((6, 0), (6, 0)), ((6, 1), (7, 0)), ((6, 1), (7, 1)))),
+    ]
