@@ -51,3 +51,27 @@ def nobodys_rules():
         Rules(3, tuple(slow.rules_of_places(3))),
         Rules(8, (((6, 0), (6, 0)), ((6, 1), (7, 0)), ((6, 1), (7, 1)))),
     ]
+
+
+def some_lots(many, how_many, most, seed=1):
+    """So many lots of rows of some places, of at most so many rows each: the same ones in each run."""
+    chance = random.Random(2000 * many + seed)
+    every = slow.rows(many)
+    return [
+        tuple(sorted(chance.sample(every, 1 + chance.randrange(min(most, len(every))))))
+        for _ in range(how_many)]
+
+
+def many_lots():
+    """All lots of one to three places, and some of four."""
+    return [lot for many in (1, 2, 3) for lot in slow.all_lots(many)] + some_lots(4, 60, 9) + some_lots(4, 10, 16)
+
+
+def few_lots():
+    """Like many_lots, but few enough for answers that take long."""
+    return slow.all_lots(1) + slow.all_lots(2) + slow.all_lots(3)[::5] + some_lots(4, 20, 9, seed=2)
+
+
+def wide_lots():
+    """Lots of rows of 8 places."""
+    return [((0,) * 8,), ((1,) * 8,), tuple(slow.rows(8))] + some_lots(8, 8, 6)

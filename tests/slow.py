@@ -101,3 +101,75 @@ def laps(lot):
 
 def closed(lot):
     return tuple(sorted(row for lap in laps(lot) for row in lap))
+
+
+def pictures(lot, one, other):
+    return {(row[one], row[other]) for row in lot}
+
+
+def by_pictures(lot):
+    places = range(len(lot[0]))
+    return tuple(
+        row for row in rows(len(lot[0]))
+        if all((row[one], row[other]) in pictures(lot, one, other) for one in places for other in places))
+
+
+def rules_told(lot):
+    return tuple(rule for rule in rules_of_places(len(lot[0])) if all(keeps_rule(row, rule) for row in lot))
+
+
+def all_lots(many):
+    return [lot for lot in subsets(rows(many)) if lot]
+
+
+def fewest_by_rows(many):
+    """For each tuple of rows that some rules keep alone such rules, as few as can be, by laying one more to all."""
+    found = {tuple(rows(many)): ()}
+    lap = list(found)
+    while lap:
+        later = []
+        for some in lap:
+            for rule in rules_of_places(many):
+                less = tuple(row for row in some if keeps_rule(row, rule))
+                if less not in found:
+                    found[less] = found[some] + (rule,)
+                    later.append(less)
+        lap = later
+    return found
+
+
+def all_following(many, rules):
+    return tuple(rule for rule in rules_of_places(many) if follows(many, rules, rule))
+
+
+def others(rules, rule):
+    return tuple(other for other in rules if other != rule)
+
+
+def is_lean(many, rules):
+    return not any(follows(many, others(rules, rule), rule) for rule in rules)
+
+
+def sure(many, rules):
+    return [want for want in wants(many) if all(has(row, want) for row in kept(many, rules))]
+
+
+def fewest_parts(many, rules):
+    """Point 19 word by word: rings of two wants that lead to each other by a rule that follows."""
+    if not kept(many, rules):
+        return None
+    settled = sure(many, rules)
+    free = [want for want in wants(many) if want[0] not in [place for place, _ in settled]]
+    one_step = steps(all_following(many, rules))
+    led = {(one, other) for one in free for other in free if one == other or (one, other) in one_step}
+    whole = {frozenset(other for other in free if {(want, other), (other, want)} <= led) for want in free}
+    in_rings = sum(len(ring) for ring in whole if len(ring) > 1)
+
+    def leads(one, other):
+        return one != other and any((a, b) in led for a in one for b in other)
+
+    between = 0
+    for one, other in product(whole, whole):
+        if leads(one, other) and not any(leads(one, third) and leads(third, other) for third in whole):
+            between += 1
+    return (len(settled), in_rings // 2, between // 2)

@@ -4,13 +4,18 @@ import copy
 import unittest
 from itertools import product
 
-from middlerows import errors, rules, settled, verdicts, walks
+from middlerows import errors, fewest, following, lean, lots, middles, rules, settled, verdicts, walks
 from middlerows.rules import Rules
 
+THIRTEEN = tuple((0,) * place + (1,) + (0,) * (7 - place) for place in range(7, -1, -1)) + tuple(
+    (1, 1) + (0,) * place + (1,) + (0,) * (5 - place) for place in range(5, 0, -1))
+# More than 2000 lots come of these: all rules but two may go, in all orders.
+LOOSE = Rules(8, tuple(((one, 1), (other, 1)) for one in (0, 1) for other in range(one, 8)))
 CHAIN = Rules(3, (((0, 0), (1, 1)), ((1, 0), (2, 1))))
 VALUES = (
-    CHAIN, Rules(1, ()), None, True, False, 0, 2, -1, 10 ** 30, "", "row", (), [], {}, (0, 0), (0, 1, 1), (1, 0, 0),
-    (0, True, 1), [0, 1, 1], {0: 1}, ((0, 0),), ((0, 0), (1, 1)), ((0, 0), (0, 0)), ((1, 1), (0, 0)),
+    CHAIN, Rules(1, ()), LOOSE, THIRTEEN, None, True, False, 0, 2, -1, 10 ** 30, "", "row", (), [], {}, (0, 0),
+    (0, 1, 1), (1, 0, 0), (0, True, 1), [0, 1, 1], {0: 1}, ((0, 0),), ((0, 0), (1, 1)), ((0, 0), (0, 0)),
+    ((1, 1), (0, 0)),
     ((0, 0, 0), (0, 1, 1)), (((0, 0), (1, 1)),), ("row", (0, 0, 0)), ("walk", ((0, 1), (1, 1))), ([], {}),
     ("walks", ((0, 1), (0, 0)), ((0, 0), (0, 1))))
 
@@ -20,12 +25,24 @@ FUNCTIONS = (
     (rules.rows_of, 1, "NoRules"), (rules.count_rows, 1, "NoRules"), (rules.row_at, 2, "NoRules BadIndex"),
     (rules.place_of, 2, "NoRules BadRow NotKept"), (walks.steps_from, 2, "NoRules BadWant"),
     (walks.leads, 2, "NoRules BadWant"), (walks.walk, 3, "NoRules BadWant"), (walks.want_rings, 1, "NoRules"),
-    (walks.shows_walk, 4, "NoRules BadWant"), (verdicts.verdict, 1, "NoRules"), (verdicts.follows, 2, "NoRules BadRule"),
-    (verdicts.shows_verdict, 2, "NoRules"), (verdicts.follow_paper, 2, "NoRules BadRule"),
+    (walks.shows_walk, 4, "NoRules BadWant"), (verdicts.verdict, 1, "NoRules"),
+    (verdicts.follows, 2, "NoRules BadRule"), (verdicts.shows_verdict, 2, "NoRules"),
+    (verdicts.follow_paper, 2, "NoRules BadRule"),
     (verdicts.shows_follow, 3, "NoRules BadRule"), (settled.sure, 1, "NoRules"), (settled.tied, 1, "NoRules"),
     (settled.told, 2, "NoRules BadWants"), (settled.renamed, 2, "NoRules BadOrder"),
     (settled.turned, 2, "NoRules BadPlaces"), (settled.both, 2, "NoRules Unlike"), (settled.parts, 1, "NoRules"),
-    (settled.part_of, 2, "NoRules BadPlaces"),
+    (settled.part_of, 2, "NoRules BadPlaces"), (middles.middle, 3, "BadRow"), (middles.is_closed, 1, "BadLot"),
+    (middles.first_gap, 1, "BadLot"), (middles.closing, 1, "BadLot"), (middles.closed, 1, "BadLot"),
+    (lots.pictures_of, 3, "BadLot BadPlace"), (lots.by_pictures, 1, "BadLot"), (lots.rules_told, 1, "BadLot"),
+    (lots.told_by, 1, "BadLot"), (lots.lot_paper, 1, "BadLot"), (lots.shows_lot, 2, "BadLot"),
+    (lots.makers, 1, "BadLot TooMany"), (lots.keeps_least, 1, "BadLot"), (lots.keeps_greatest, 1, "BadLot"),
+    (lots.in_common, 2, "BadLot Unlike"), (lots.put_together, 2, "BadLot Unlike"),
+    (following.all_following, 1, "NoRules"), (following.may_go, 1, "NoRules"), (following.plain, 1, "NoRules"),
+    (following.same_rows, 2, "NoRules Unlike"), (following.parting_row, 2, "NoRules Unlike"),
+    (following.same_paper, 2, "NoRules Unlike"), (following.shows_same, 3, "NoRules Unlike"),
+    (lean.is_lean, 1, "NoRules"), (lean.leaned, 1, "NoRules"), (lean.least_lots, 1, "NoRules TooMany"),
+    (fewest.count_fewest, 1, "NoRules"), (fewest.fewest_rules, 1, "NoRules"), (fewest.shows_fewest, 2, "NoRules"),
+    (fewest.fewest_parts, 1, "NoRules"),
 )
 
 
@@ -33,7 +50,7 @@ def arguments(many):
     """Values of all kinds for so many arguments: all of them for one and two, fewer for more."""
     if many <= 2:
         return product(VALUES, repeat=many)
-    heads = [values for values in product(VALUES[:8] + VALUES[14:23:2], repeat=many - 1)]
+    heads = [values for values in product(VALUES[:2] + VALUES[4:10] + VALUES[16:25:2] + ((0, 1, 1),), repeat=many - 1)]
     return [head + (value,) for head in heads for value in VALUES[::1 if many == 3 else 3]]
 
 

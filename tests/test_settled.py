@@ -102,8 +102,8 @@ class TestRenamed(unittest.TestCase):
 
     def test_bad_order(self):
         bad = OTHER_KINDS + (
-            (), (0, 1), (0, 1, 2, 3), (0, 1, 1), (0, 1, 3), (-1, 0, 1), [0, 1, 2], (0, True, 2), (False, 1, 2), (0, 1, None),
-            "012", (0, 1, "2"), {0: 0, 1: 1, 2: 2}, ((0,), 1, 2), (1, 2, 3))
+            (), (0, 1), (0, 1, 2, 3), (0, 1, 1), (0, 1, 3), (-1, 0, 1), [0, 1, 2], (0, True, 2), (False, 1, 2),
+            (0, 1, None), "012", (0, 1, "2"), {0: 0, 1: 1, 2: 2}, ((0,), 1, 2), (1, 2, 3))
         for order in bad:
             with self.subTest(order=order), self.assertRaises(BadOrder):
                 renamed(CHAIN, order)
