@@ -43,7 +43,12 @@ def told(rules, wants):
 def renamed(rules, order):
     check_rules(rules)
     check_order(rules.many, order)
-    return rules_from(rules.many, renamed_list(rules.rules, order))
+    return rules_from(rules.many, renamed_list(rules.rules, where_they_stand(order)))
+
+
+def where_they_stand(places):
+    """For each of some places its own place among them, from 0: the name that it gets."""
+    return {place: index for index, place in enumerate(places)}
 
 
 def renamed_list(some, names):
@@ -89,6 +94,6 @@ def part_of(rules, places):
     check_places(rules.many, places)
     if len(places) == 0:
         raise BadPlaces("at least one place must be named")
-    names = {place: index for index, place in enumerate(places)}
+    names = where_they_stand(places)
     inside = [rule for rule in rules.rules if rule[0][0] in names and rule[1][0] in names]
     return rules_from(len(places), renamed_list(inside, names))

@@ -83,22 +83,27 @@ class TestRenamed(unittest.TestCase):
     def test_against_the_words(self):
         for rules in few_rules():
             for order in list(permutations(range(rules.many)))[:24]:
-                rows = sorted(
-                    row for row in slow.rows(rules.many)
-                    if tuple(row[order[place]] for place in range(rules.many)) in rows_of(rules))
                 answer = renamed(rules, order)
                 self.assertEqual(answer.many, rules.many)
+                # At each place there stands what the order has there.
+                rows = sorted(tuple(row[place] for place in order) for row in slow.kept(rules.many, rules.rules))
                 self.assertEqual(rows_of(answer), rows)
                 expected = {
-                    sorted_rule((order[one], first), (order[other], second))
+                    sorted_rule((order.index(one), first), (order.index(other), second))
                     for (one, first), (other, second) in rules.rules}
                 self.assertEqual(answer.rules, tuple(sorted(expected)))
 
     def test_a_place_has_the_one_that_stands_there(self):
-        # Place 0 becomes 1, 1 becomes 2 and 2 becomes 0.
-        self.assertEqual(renamed(Rules(3, (((0, 1), (1, 0)),)), (1, 2, 0)).rules, (((1, 1), (2, 0)),))
-        self.assertEqual(renamed(Rules(3, (((1, 1), (2, 0)),)), (1, 2, 0)).rules, (((0, 0), (2, 1)),))
+        # Place 1 stands first and becomes 0, 2 becomes 1, and 0 stands last and becomes 2.
+        self.assertEqual(renamed(Rules(3, (((0, 1), (1, 0)),)), (1, 2, 0)).rules, (((0, 0), (2, 1)),))
+        self.assertEqual(renamed(Rules(3, (((1, 1), (2, 0)),)), (1, 2, 0)).rules, (((0, 1), (1, 0)),))
         self.assertEqual(renamed(Rules(1, (((0, 1), (0, 1)),)), (0,)).rules, (((0, 1), (0, 1)),))
+
+    def test_an_order_and_the_one_back(self):
+        for rules in few_rules():
+            for order in list(permutations(range(rules.many)))[:24]:
+                back = tuple(order.index(place) for place in range(rules.many))
+                self.assertEqual(renamed(renamed(rules, order), back), rules)
 
     def test_bad_order(self):
         bad = OTHER_KINDS + (
