@@ -43,6 +43,13 @@ def is_row(many, value):
     return all([is_bit(thing) for thing in value])
 
 
+def is_row_with_gaps(many, value):
+    """Whether a value is a tuple of 0, 1 or None for each place."""
+    if not isinstance(value, tuple) or len(value) != many:
+        return False
+    return all([thing is None or is_bit(thing) for thing in value])
+
+
 def is_row_of_some_length(value):
     return isinstance(value, tuple) and is_many(len(value)) and is_row(len(value), value)
 
@@ -132,3 +139,8 @@ def rule_of(one, other):
 def keeps_rule(row, rule):
     (one, first), (other, second) = rule
     return row[one] == first or row[other] == second
+
+
+def unlike_places(one, other):
+    """In how many places two rows are unlike."""
+    return len([True for first, second in zip(one, other) if first != second])

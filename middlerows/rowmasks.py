@@ -32,6 +32,10 @@ def least_row_in(many, mask):
     return row_with(many, (mask & -mask).bit_length() - 1)
 
 
+def is_one_row(mask):
+    return mask != 0 and mask & (mask - 1) == 0
+
+
 def lot_mask(rows):
     mask = 0
     for row in rows:
@@ -55,6 +59,13 @@ def want_masks(many):
         masks[(place, 0)] = every_row(many) ^ ones
         masks[(place, 1)] = ones
     return masks
+
+
+def flipped(many, mask, place):
+    """The rows of a lot, each with the other value at a place."""
+    masks = want_masks(many)
+    run = 1 << (many - 1 - place)
+    return ((mask & masks[(place, 0)]) << run) | ((mask & masks[(place, 1)]) >> run)
 
 
 def rule_mask(masks, rule):

@@ -77,7 +77,11 @@ def row_at(rules, number):
     return rows[number]
 
 
-def place_of(rules, row):
+def check_kept(rules, row):
     if not keeps(rules, row):
         raise NotKept("this row does not keep the rules")
+
+
+def place_of(rules, row):
+    check_kept(rules, row)
     return rows_of(rules).index(row)

@@ -1,6 +1,7 @@
 """Values for the tests: all small Rules, some larger ones, some lots, and values of other kinds."""
 
 import random
+from itertools import permutations, product
 
 from middlerows.rules import Rules
 from tests import slow
@@ -75,3 +76,36 @@ def few_lots():
 def wide_lots():
     """Lots of rows of 8 places."""
     return [((0,) * 8,), ((1,) * 8,), tuple(slow.rows(8))] + some_lots(8, 8, 6)
+
+
+def changed(value):
+    """Values like one made of tuples, words and integers, but changed in one thing, or of another kind."""
+    yield from (None, [value])
+    if isinstance(value, tuple):
+        yield list(value)
+        yield value + (None,)
+        for at, thing in enumerate(value):
+            yield value[:at] + value[at + 1:]
+            yield value[:at] + (thing,) + value[at:]
+            yield value[:at] + value[at:][::-1]
+            for other in changed(thing):
+                yield value[:at] + (other,) + value[at + 1:]
+    elif isinstance(value, int):
+        yield from (bool(value), str(value), value + 1, value - 1, 1 - value, (value,), 10 ** 30)
+    else:
+        yield from ("", value + "s", value.upper())
+
+
+def some_turns(many, how_many, seed=1):
+    """So many turns of some places: the same ones in each run."""
+    chance = random.Random(3000 * many + seed)
+    found = []
+    for _ in range(how_many):
+        places = chance.sample(range(many), many)
+        found.append(tuple((place, chance.choice(("first", "second"))) for place in places))
+    return found
+
+
+def all_turns(many):
+    owners = list(product(("first", "second"), repeat=many))
+    return [tuple(zip(places, some)) for places in permutations(range(many)) for some in owners]

@@ -173,3 +173,60 @@ def fewest_parts(many, rules):
         if leads(one, other) and not any(leads(one, third) and leads(third, other) for third in whole):
             between += 1
     return (len(settled), in_rings // 2, between // 2)
+
+
+def told_lots(many):
+    """All wants that can be told: ascending tuples of wants of unlike places."""
+    found = []
+    for gaps in product((None, 0, 1), repeat=many):
+        found.append(tuple((place, value) for place, value in enumerate(gaps) if value is not None))
+    return sorted(found)
+
+
+def left(many, rules, told):
+    return [row for row in kept(many, rules) if all(has(row, want) for want in told)]
+
+
+def open_places(many, some):
+    return [place for place in range(many) if len({row[place] for row in some}) == 2]
+
+
+def apart(one, other):
+    return sum(1 for a, b in zip(one, other) if a != b)
+
+
+def halves_by(some, place):
+    """The rows of some with 0 at a place, and those with 1."""
+    return tuple(tuple(row for row in some if row[place] == value) for value in (0, 1))
+
+
+def least_depth(many, some):
+    """The least depth of a plan for some rows, by trying all questions."""
+    if len(some) == 1:
+        return 0
+    return min(
+        1 + max(least_depth(many, half) for half in halves_by(some, place)) for place in open_places(many, some))
+
+
+def all_plans(many, some):
+    """All plans for some rows, as pairs (depth, plan)."""
+    if len(some) == 1:
+        return [(0, ("row", some[0]))]
+    found = []
+    for place in open_places(many, some):
+        zeros, ones = halves_by(some, place)
+        for (deep, plan), (deeper, other) in product(all_plans(many, zeros), all_plans(many, ones)):
+            found.append((1 + max(deep, deeper), (place, plan, other)))
+    return found
+
+
+def winner(rules_kept, turns, values):
+    """Who wins from some values of the first turns, by playing all plays."""
+    if len(values) == len(turns):
+        row = [None] * len(turns)
+        for (place, _), value in zip(turns, values):
+            row[place] = value
+        return "first" if tuple(row) in rules_kept else "second"
+    owner = turns[len(values)][1]
+    ends = [winner(rules_kept, turns, values + (value,)) for value in (0, 1)]
+    return owner if owner in ends else ends[0]

@@ -4,7 +4,9 @@ import copy
 import unittest
 from itertools import product
 
-from middlerows import errors, fewest, following, lean, lots, middles, rules, settled, verdicts, walks
+from middlerows import (
+    errors, fewest, following, gaps, lean, lots, middles, nearest, questions, rulechanges, rules, settled, tellings,
+    turns, verdicts, walks)
 from middlerows.rules import Rules
 
 THIRTEEN = tuple((0,) * place + (1,) + (0,) * (7 - place) for place in range(7, -1, -1)) + tuple(
@@ -17,7 +19,8 @@ VALUES = (
     (0, 1, 1), (1, 0, 0), (0, True, 1), [0, 1, 1], {0: 1}, ((0, 0),), ((0, 0), (1, 1)), ((0, 0), (0, 0)),
     ((1, 1), (0, 0)),
     ((0, 0, 0), (0, 1, 1)), (((0, 0), (1, 1)),), ("row", (0, 0, 0)), ("walk", ((0, 1), (1, 1))), ([], {}),
-    ("walks", ((0, 1), (0, 0)), ((0, 0), (0, 1))))
+    ("walks", ((0, 1), (0, 0)), ((0, 0), (0, 1))), Rules(7, ()), (None, 0, None), ((0, 0),) * 21,
+    ((0, "first"), (2, "second"), (1, "first")), ((0, "second"),), (0, ("row", (0,)), ("row", (1,))))
 
 # Each function, how many arguments it takes, and the errors that may come, in the order in which they are told.
 FUNCTIONS = (
@@ -42,7 +45,22 @@ FUNCTIONS = (
     (following.same_paper, 2, "NoRules Unlike"), (following.shows_same, 3, "NoRules Unlike"),
     (lean.is_lean, 1, "NoRules"), (lean.leaned, 1, "NoRules"), (lean.least_lots, 1, "NoRules TooMany"),
     (fewest.count_fewest, 1, "NoRules"), (fewest.fewest_rules, 1, "NoRules"), (fewest.shows_fewest, 2, "NoRules"),
-    (fewest.fewest_parts, 1, "NoRules"),
+    (fewest.fewest_parts, 1, "NoRules"), (rulechanges.with_rule, 2, "NoRules BadRule"),
+    (rulechanges.without_rule, 2, "NoRules BadRule NotThere"), (rulechanges.rows_lost, 2, "NoRules BadRule"),
+    (rulechanges.rows_won, 2, "NoRules BadRule NotThere"), (rulechanges.row_counts, 1, "NoRules"),
+    (tellings.left_by, 2, "NoRules BadWants"), (tellings.settles, 2, "NoRules BadWants"),
+    (tellings.open_places, 2, "NoRules BadWants"), (tellings.is_telling, 2, "NoRules BadWants"),
+    (tellings.tellings, 2, "NoRules BadRow NotKept"), (tellings.least_telling, 2, "NoRules BadRow NotKept"),
+    (tellings.telling_sizes, 1, "NoRules"), (tellings.hardest_row, 1, "NoRules"),
+    (questions.fewest_questions, 1, "NoRules TooMany"), (questions.question_plan, 1, "NoRules TooMany"),
+    (questions.first_question, 1, "NoRules TooMany"), (questions.shows_question_plan, 3, "NoRules BadMost"),
+    (nearest.flips_to, 2, "NoRules BadRow"), (nearest.nearest, 2, "NoRules BadRow"), (nearest.most_apart, 1, "NoRules"),
+    (nearest.first_settling, 2, "NoRules BadTold"), (nearest.first_against, 2, "NoRules BadTold"),
+    (nearest.needless, 2, "NoRules BadTold"), (gaps.may_be, 2, "NoRules BadGaps"),
+    (gaps.settling_places, 1, "NoRules"), (gaps.are_settling, 2, "NoRules BadPlaces"),
+    (turns.wins, 2, "NoRules BadTurns"), (turns.wins_from, 3, "NoRules BadTurns BadValues"),
+    (turns.next_wins, 3, "NoRules BadTurns BadValues"), (turns.least_play, 2, "NoRules BadTurns"),
+    (turns.exchanged, 3, "NoRules BadTurns BadIndex"), (turns.handed_over, 2, "NoRules BadTurns"),
 )
 
 
@@ -50,7 +68,8 @@ def arguments(many):
     """Values of all kinds for so many arguments: all of them for one and two, fewer for more."""
     if many <= 2:
         return product(VALUES, repeat=many)
-    heads = [values for values in product(VALUES[:2] + VALUES[4:10] + VALUES[16:25:2] + ((0, 1, 1),), repeat=many - 1)]
+    some = VALUES[:2] + VALUES[4:10] + VALUES[16:25:2] + ((0, 1, 1),) + VALUES[-3:-1]
+    heads = list(product(some, repeat=many - 1))
     return [head + (value,) for head in heads for value in VALUES[::1 if many == 3 else 3]]
 
 
