@@ -1,7 +1,8 @@
 """Checks that raise the error of a value that is not what it must be."""
 
-from middlerows.errors import BadLot, BadOrder, BadPlace, BadPlaces, BadRow, BadRule, BadWant, BadWants
-from middlerows.kinds import first_wrong_row, is_order, is_place, is_places, is_row, is_rule, is_want, is_wants
+from middlerows.errors import BadLot, BadOrder, BadPlace, BadPlaces, BadPrices, BadRow, BadRule, BadWant, BadWants
+from middlerows.kinds import (
+    first_wrong_row, is_order, is_place, is_places, is_prices, is_row, is_rule, is_want, is_wants)
 
 
 def check_row(many, row):
@@ -37,6 +38,11 @@ def check_places(many, places):
 def check_place(many, place):
     if not is_place(many, place):
         raise BadPlace("this is no place of these rows")
+
+
+def check_prices(many, prices):
+    if not is_prices(many, prices):
+        raise BadPrices("this is no tuple of an integer from -50 to 50 for each place")
 
 
 def check_lot(lot):

@@ -1,6 +1,7 @@
 """What is an integer, a place, a want, a rule or a row, told of any value."""
 
 MOST_PLACES = 8
+MOST_PRICE = 50
 
 
 def is_integer(value):
@@ -48,6 +49,13 @@ def is_row_with_gaps(many, value):
     if not isinstance(value, tuple) or len(value) != many:
         return False
     return all([thing is None or is_bit(thing) for thing in value])
+
+
+def is_prices(many, value):
+    """Whether a value is a tuple of an integer from -50 to 50 for each place."""
+    if not isinstance(value, tuple) or len(value) != many:
+        return False
+    return all([is_integer(thing) and -MOST_PRICE <= thing <= MOST_PRICE for thing in value])
 
 
 def is_row_of_some_length(value):

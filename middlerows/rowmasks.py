@@ -36,6 +36,11 @@ def is_one_row(mask):
     return mask != 0 and mask & (mask - 1) == 0
 
 
+def count_of(mask):
+    """How many rows a lot has."""
+    return f"{mask:b}".count("1")
+
+
 def lot_mask(rows):
     mask = 0
     for row in rows:

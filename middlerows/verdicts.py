@@ -41,9 +41,14 @@ def is_walks_paper(rules, value):
     if not is_paper(value, "walks", 3):
         return False
     _, one, other = value
+    return are_there_and_back(rules, one, other) and one[-1] == opposite(one[0])
+
+
+def are_there_and_back(rules, one, other):
+    """Whether two values are a walk from a want to a want, and one from this back to it."""
     if not is_walk(rules, one) or not is_walk(rules, other):
         return False
-    return one[-1] == opposite(one[0]) and other[0] == one[-1] and other[-1] == one[0]
+    return other[0] == one[-1] and other[-1] == one[0]
 
 
 def is_paper(value, word, length):

@@ -26,6 +26,20 @@ def some_rules(many, how_many, most, seed=1):
     return found
 
 
+def tied_rules(many, how_many, seed=1):
+    """So many Rules that tie one or two places to others, some with one rule more: the same ones in each run."""
+    chance = random.Random(6000 * many + seed)
+    found = []
+    for _ in range(how_many):
+        some = set(chance.sample(slow.rules_of_places(many), chance.randrange(2)))
+        for _ in range(chance.randrange(1, 3)):
+            one, other = sorted(chance.sample(range(many), 2))
+            value = chance.randrange(2)
+            some |= {((one, 0), (other, value)), ((one, 1), (other, 1 - value))}
+        found.append(Rules(many, tuple(sorted(some))))
+    return found
+
+
 def many_rules():
     """Rules of one to five places, of few rules and of many."""
     found = all_small_rules()
@@ -109,3 +123,20 @@ def some_turns(many, how_many, seed=1):
 def all_turns(many):
     owners = list(product(("first", "second"), repeat=many))
     return [tuple(zip(places, some)) for places in permutations(range(many)) for some in owners]
+
+
+def some_prices(many, how_many, seed=1):
+    """So many prices of some places, many of them at the ends or 0: the same ones in each run."""
+    chance = random.Random(4000 * many + seed)
+    found = []
+    for _ in range(how_many):
+        found.append(tuple(
+            chance.choice((-50, 0, 50, chance.randrange(-50, 51), chance.randrange(-3, 4))) for _ in range(many)))
+    return found
+
+
+def some_payments(many, how_many, seed=1):
+    """So many payments of some rules: the same ones in each run."""
+    chance = random.Random(5000 * many + seed)
+    tops = [chance.choice((3, 60, 1000)) for _ in range(how_many)]
+    return [tuple(chance.randrange(top + 1) for _ in range(many)) for top in tops]

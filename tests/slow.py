@@ -230,3 +230,90 @@ def winner(rules_kept, turns, values):
     owner = turns[len(values)][1]
     ends = [winner(rules_kept, turns, values + (value,)) for value in (0, 1)]
     return owner if owner in ends else ends[0]
+
+
+def ahead_of(turns):
+    """For each place of the first player, ascending, the second player's places ahead of it in the turns."""
+    found = {}
+    for index, (place, owner) in enumerate(turns):
+        if owner == "first":
+            found[place] = [other for other, player in turns[:index] if player == "second"]
+    return {place: found[place] for place in sorted(found)}
+
+
+def all_answers(turns):
+    choices = []
+    for place, others in ahead_of(turns).items():
+        choice = [(place, "is", 0), (place, "is", 1)]
+        choice += [(place, word, other) for word in ("as", "not") for other in others]
+        choices.append(choice)
+    return list(product(*choices))
+
+
+def rows_by_answers(turns, answers):
+    """The rows that come of answers, whatever the second player does."""
+    seconds = [place for place, owner in turns if owner == "second"]
+    found = []
+    for values in product((0, 1), repeat=len(seconds)):
+        at = dict(zip(seconds, values))
+        for place, word, told in answers:
+            at[place] = told if word == "is" else at[told] if word == "as" else 1 - at[told]
+        found.append(tuple(at[place] for place in sorted(at)))
+    return found
+
+
+def winning_answers(rules_kept, turns):
+    return [some for some in all_answers(turns) if set(rows_by_answers(turns, some)) <= set(rules_kept)]
+
+
+def flips(some, row, locked=()):
+    """The rows of some to which one flip leads from a row, ascending."""
+    places = [place for place in range(len(row)) if place not in locked]
+    return sorted(other for other in some if other != row and apart(row, other) == 1 and any(
+        row[place] != other[place] for place in places))
+
+
+def shortest_ways(some, one, other, locked=()):
+    """All shortest ways from one row to another one through some rows, by lengthening all that meet no row twice."""
+    ways = [(one,)]
+    while ways:
+        found = [way for way in ways if way[-1] == other]
+        if found:
+            return sorted(found)
+        ways = [way + (row,) for way in ways for row in flips(some, way[-1], locked) if row not in way]
+    return []
+
+
+def all_cubes(some, many):
+    """For each lot of places all cubes of it, as frozen sets of rows."""
+    found = {}
+    for places in subsets(range(many)):
+        found[places] = set()
+        for row in some:
+            cube = set()
+            for values in product((0, 1), repeat=len(places)):
+                at = dict(zip(places, values))
+                cube.add(tuple(at.get(place, row[place]) for place in range(many)))
+            if cube <= set(some):
+                found[places].add(frozenset(cube))
+    return found
+
+
+def price(prices, row):
+    return sum(cost * value for cost, value in zip(prices, row))
+
+
+def half_rows(many, rules):
+    """All half rows that keep rules."""
+    def halves(value, want):
+        return value[want[0]] if want[1] == 1 else 2 - value[want[0]]
+    return [
+        value for value in product((0, 1, 2), repeat=many)
+        if all(halves(value, one) + halves(value, other) >= 2 for one, other in rules)]
+
+
+def bound(many, rules, prices, payments):
+    def gets(want):
+        return sum(payment * rule.count(want) for rule, payment in zip(rules, payments))
+    taken = [max(gets((place, 0)), gets((place, 1)) - 2 * prices[place]) for place in range(many)]
+    return sum(payments) - sum(taken)

@@ -5,8 +5,8 @@ import unittest
 from itertools import product
 
 from middlerows import (
-    errors, fewest, following, gaps, lean, lots, middles, nearest, questions, rulechanges, rules, settled, tellings,
-    turns, verdicts, walks)
+    cheaprows, cubes, errors, fewest, flips, following, gaps, lean, lots, middles, nearest, payments, playpapers,
+    questions, rulechanges, rules, settled, tellings, turns, verdicts, walks)
 from middlerows.rules import Rules
 
 THIRTEEN = tuple((0,) * place + (1,) + (0,) * (7 - place) for place in range(7, -1, -1)) + tuple(
@@ -61,6 +61,16 @@ FUNCTIONS = (
     (turns.wins, 2, "NoRules BadTurns"), (turns.wins_from, 3, "NoRules BadTurns BadValues"),
     (turns.next_wins, 3, "NoRules BadTurns BadValues"), (turns.least_play, 2, "NoRules BadTurns"),
     (turns.exchanged, 3, "NoRules BadTurns BadIndex"), (turns.handed_over, 2, "NoRules BadTurns"),
+    (playpapers.play_paper, 2, "NoRules BadTurns"), (playpapers.shows_play, 3, "NoRules BadTurns"),
+    (playpapers.count_answers, 2, "NoRules BadTurns"), (flips.flips_of, 2, "NoRules BadRow NotKept"),
+    (flips.way_of_rows, 3, "NoRules BadRow NotKept"), (flips.count_ways, 3, "NoRules BadRow NotKept"),
+    (flips.steps_apart, 3, "NoRules BadRow NotKept"), (flips.shows_way_of_rows, 4, "NoRules BadRow NotKept"),
+    (flips.row_parts, 1, "NoRules"), (flips.is_straight, 1, "NoRules"),
+    (flips.locked_way, 4, "NoRules BadPlaces BadRow NotKept"), (cubes.gate, 3, "NoRules BadWants BadRow NotKept"),
+    (cubes.crossing, 1, "NoRules"), (cubes.cubes, 1, "NoRules"), (cheaprows.cheapest, 2, "NoRules BadPrices"),
+    (cheaprows.all_cheapest, 2, "NoRules BadPrices"), (cheaprows.dearest_one, 3, "NoRules BadPrices BadPlace"),
+    (payments.payment_bound, 3, "NoRules BadPrices BadPayments"), (payments.payments_for, 2, "NoRules BadPrices"),
+    (payments.shows_payments, 4, "NoRules BadPrices BadHalves"),
 )
 
 
@@ -68,7 +78,7 @@ def arguments(many):
     """Values of all kinds for so many arguments: all of them for one and two, fewer for more."""
     if many <= 2:
         return product(VALUES, repeat=many)
-    some = VALUES[:2] + VALUES[4:10] + VALUES[16:25:2] + ((0, 1, 1),) + VALUES[-3:-1]
+    some = VALUES[:2] + VALUES[4:10] + VALUES[16:25:2] + ((0, 1, 1), ()) + VALUES[-3:-1]
     heads = list(product(some, repeat=many - 1))
     return [head + (value,) for head in heads for value in VALUES[::1 if many == 3 else 3]]
 
