@@ -4,7 +4,7 @@ from itertools import combinations
 
 from middlerows.checks import check_places
 from middlerows.errors import BadGaps
-from middlerows.kinds import is_row_with_gaps
+from middlerows.kinds import is_row_with_gaps, wants_in_gaps
 from middlerows.rules import check_rules, rows_of
 from middlerows.tellings import left_by
 
@@ -13,7 +13,7 @@ def may_be(rules, gaps):
     check_rules(rules)
     if not is_row_with_gaps(rules.many, gaps):
         raise BadGaps("this is no tuple of 0, 1 or None for each place")
-    rows = left_by(rules, tuple([(place, value) for place, value in enumerate(gaps) if value is not None]))
+    rows = left_by(rules, wants_in_gaps(gaps))
     return tuple([tuple(sorted({row[place] for row in rows})) for place in range(rules.many)])
 
 

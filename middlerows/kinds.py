@@ -2,6 +2,8 @@
 
 MOST_PLACES = 8
 MOST_PRICE = 50
+# All pairs of values that two places can have, ascending.
+ALL_PAIRS = ((0, 0), (0, 1), (1, 0), (1, 1))
 
 
 def is_integer(value):
@@ -93,6 +95,22 @@ def is_order(many, value):
     return sorted(value) == list(range(many))
 
 
+def is_pair_of_values(value):
+    return is_pair(value) and is_bit(value[0]) and is_bit(value[1])
+
+
+def is_picture(many, value):
+    """Whether a value is a picture: two places, one less than other, and the pairs that are let there, ascending."""
+    if not isinstance(value, tuple) or len(value) != 3:
+        return False
+    one, other, pairs = value
+    if not is_place(many, one) or not is_place(many, other) or one >= other:
+        return False
+    if not isinstance(pairs, tuple):
+        return False
+    return all([is_pair_of_values(pair) for pair in pairs]) and is_rising(pairs)
+
+
 def is_rising(things):
     for index in range(1, len(things)):
         if things[index] <= things[index - 1]:
@@ -116,6 +134,16 @@ def first_wrong_row(lot):
         if not is_row_of_some_length(row):
             return index
         if index > 0 and (len(row) != len(lot[0]) or row <= lot[index - 1]):
+            return index
+    return None
+
+
+def first_wrong_picture(many, tables):
+    """The index of the first thing that cannot stand among pictures, ascending by their places, or None."""
+    for index, picture in enumerate(tables):
+        if not is_picture(many, picture):
+            return index
+        if index > 0 and picture[:2] <= tables[index - 1][:2]:
             return index
     return None
 
@@ -149,6 +177,20 @@ def keeps_rule(row, rule):
     return row[one] == first or row[other] == second
 
 
+def wants_in_gaps(gaps):
+    """The wants of the values that are not None."""
+    return tuple([(place, value) for place, value in enumerate(gaps) if value is not None])
+
+
+def has_wants(row, wants):
+    return all([row[place] == value for place, value in wants])
+
+
 def unlike_places(one, other):
     """In how many places two rows are unlike."""
     return len([True for first, second in zip(one, other) if first != second])
+
+
+def pairs_at(rows, one, other):
+    """The pairs of the values that rows have at two places, ascending."""
+    return tuple(sorted({(row[one], row[other]) for row in rows}))

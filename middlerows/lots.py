@@ -4,7 +4,7 @@ from itertools import combinations
 
 from middlerows.checks import check_lot, check_place
 from middlerows.errors import TooMany, Unlike
-from middlerows.kinds import first_wrong_rule, is_row
+from middlerows.kinds import first_wrong_rule, is_row, pairs_at
 from middlerows.lotpairs import closed_rows, lot_pairs, row_pairs, rules_kept, rows_within
 from middlerows.middles import first_gap, is_closed, middle_row
 from middlerows.rowmasks import kept_mask, lot_mask, row_number
@@ -17,7 +17,7 @@ def pictures_of(lot, one, other):
     check_lot(lot)
     check_place(len(lot[0]), one)
     check_place(len(lot[0]), other)
-    return tuple(sorted({(row[one], row[other]) for row in lot}))
+    return pairs_at(lot, one, other)
 
 
 def by_pictures(lot):

@@ -7,8 +7,8 @@ are to be paid.
 """
 
 from middlerows.checks import check_prices
-from middlerows.errors import BadHalves, BadPayments
-from middlerows.halves import is_half_row, is_kept_by_halves, price_of_halves
+from middlerows.errors import BadPayments
+from middlerows.halfrows import check_kept_halves, price_of_halves
 from middlerows.kinds import all_wants, is_integer, opposite
 from middlerows.rules import check_rules
 from middlerows.walks import step_table
@@ -42,8 +42,7 @@ def payment_bound(rules, prices, payments):
 def shows_payments(rules, prices, halves, value):
     check_rules(rules)
     check_prices(rules.many, prices)
-    if not is_half_row(rules.many, halves) or not is_kept_by_halves(rules, halves):
-        raise BadHalves("this is no half row that keeps the rules")
+    check_kept_halves(rules, halves)
     return is_payments(rules, value) and bound_of(rules, prices, value) == price_of_halves(prices, halves)
 
 

@@ -1,8 +1,8 @@
 """Rules of two places, and the rows that keep them."""
 
-from middlerows.checks import check_row
-from middlerows.errors import BadIndex, BadMany, BadRules, NoRules, NotKept
-from middlerows.kinds import first_wrong_rule, is_integer, is_many, keeps_rule
+from middlerows.checks import check_many, check_row
+from middlerows.errors import BadIndex, BadRules, NoRules, NotKept
+from middlerows.kinds import first_wrong_rule, is_integer, keeps_rule
 from middlerows.rowmasks import kept_mask, rows_in
 
 
@@ -10,8 +10,7 @@ class Rules:
     """How many places there are, and an ascending tuple of unlike rules of them."""
 
     def __init__(self, many, rules):
-        if not is_many(many):
-            raise BadMany("the number of places must be an integer from 1 to 8")
+        check_many(many)
         if not isinstance(rules, tuple):
             raise BadRules(None)
         index = first_wrong_rule(many, rules)

@@ -1,7 +1,7 @@
 """What all rows that keep rules have, and rules made of other ones: told, renamed, turned, both, parts."""
 
-from middlerows.checks import check_order, check_places, check_wants
-from middlerows.errors import BadPlaces, Unlike
+from middlerows.checks import check_order, check_places, check_some_places, check_wants
+from middlerows.errors import Unlike
 from middlerows.kinds import all_wants, opposite, rule_of
 from middlerows.rowmasks import want_masks
 from middlerows.rules import check_rules, mask_of, rules_from
@@ -91,9 +91,7 @@ def parts(rules):
 
 def part_of(rules, places):
     check_rules(rules)
-    check_places(rules.many, places)
-    if len(places) == 0:
-        raise BadPlaces("at least one place must be named")
+    check_some_places(rules.many, places)
     names = where_they_stand(places)
     inside = [rule for rule in rules.rules if rule[0][0] in names and rule[1][0] in names]
     return rules_from(len(places), renamed_list(inside, names))

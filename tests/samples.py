@@ -140,3 +140,64 @@ def some_payments(many, how_many, seed=1):
     chance = random.Random(5000 * many + seed)
     tops = [chance.choice((3, 60, 1000)) for _ in range(how_many)]
     return [tuple(chance.randrange(top + 1) for _ in range(many)) for top in tops]
+
+
+def every_tables(many):
+    """All tables of some places: for each two of them no picture, or one with any of the four pairs."""
+    pairs = list(slow.subsets(list(product((0, 1), repeat=2))))
+    found = []
+    for some in product([None] + pairs, repeat=len(slow.place_pairs(many))):
+        pictures = zip(slow.place_pairs(many), some)
+        found.append(tuple((one, other, let) for (one, other), let in pictures if let is not None))
+    return found
+
+
+def some_tables(many, how_many, seed=1):
+    """So many tables of some places, most pictures of three pairs or four: the same ones in each run."""
+    chance = random.Random(7000 * many + seed)
+    pairs = list(product((0, 1), repeat=2))
+    found = []
+    for _ in range(how_many):
+        tables = []
+        for one, other in slow.place_pairs(many):
+            size = chance.choice((None, None, 0, 1, 2, 2, 3, 3, 3, 3, 4, 4) if many < 5 else (None,) * 6 + (2, 3, 3, 4))
+            if size is not None:
+                tables.append((one, other, tuple(sorted(chance.sample(pairs, size)))))
+        found.append(tuple(tables))
+    return found
+
+
+def many_tables():
+    """Pairs of how many places, and tables of them: all of one place and two, some of three to five."""
+    found = [(many, tables) for many in (1, 2) for tables in every_tables(many)]
+    found += [(3, tables) for tables in every_tables(3)[::23]]
+    return found + [(many, tables) for many in (3, 4, 5) for tables in some_tables(many, 60)]
+
+
+def few_tables():
+    """Like many_tables, but few enough for answers that take long."""
+    return many_tables()[::4]
+
+
+def wide_tables():
+    """Pairs of 8 places and tables of them."""
+    full = slow.filled(8, ())
+    return [(8, ()), (8, full), (8, tuple((one, other, ()) for one, other, _ in full))] + [
+        (8, tables) for tables in some_tables(8, 4)]
+
+
+# Tables of three places would follow, but for one thing each: with the index that tells where.
+TABLES = ((0, 1, ((0, 0), (0, 1), (1, 1))), (1, 2, ((0, 1), (1, 0))))
+BAD_TABLES = [(value, None) for value in OTHER_KINDS if not isinstance(value, tuple)] + [
+    (list(TABLES), None), ("tables", None), ({0: TABLES[0]}, None), (1, None), (((),), 0), ((None,), 0),
+    (TABLES[::-1], 1), (TABLES + TABLES[1:], 2), (TABLES + TABLES, 2), (TABLES[:1] + TABLES[:1], 1),
+    (TABLES + ((1, 2, ((0, 0),)),), 2), (TABLES + ((0, 2, ((0, 0),)),), 2), (TABLES + (None,), 2),
+    ((TABLES[0], list(TABLES[1])), 1), ((TABLES[0], TABLES[1][:2]), 1), ((TABLES[0], TABLES[1] + ((),)), 1),
+    (((0, 3, ()),), 0), (((-1, 1, ()),), 0), (((1, 0, ()),), 0), (((1, 1, ()),), 0), (((0, True, ()),), 0),
+    (((False, 1, ()),), 0), (((0, "1", ()),), 0), (((None, 1, ()),), 0), (((0, (1,), ()),), 0), (((0, 10 ** 30, ()),), 0),
+    (((0, 1, None),), 0), (((0, 1, [(0, 0)]),), 0), (((0, 1, {}),), 0), (((0, 1, "01"),), 0), (((0, 1, (0, 0)),), 0),
+    (((0, 1, ((0, 1), (0, 0))),), 0), (((0, 1, ((0, 0), (0, 0))),), 0), (((0, 1, ((0, 2),)),), 0),
+    (((0, 1, ((0, True),)),), 0), (((0, 1, ((False, 0),)),), 0), (((0, 1, ((0,),)),), 0), (((0, 1, ((0, 0, 0),)),), 0),
+    (((0, 1, ([0, 0],)),), 0), (((0, 1, ((0, None),)),), 0), (((0, 1, ((0, -1),)),), 0), (((0, 1, ("00",)),), 0),
+    ((TABLES[0], (1, 2, ((0, 0), (1, 2)))), 1), ((TABLES[0], (1, 3, ())), 1), ((TABLES[0], (0, 1, ()), None), 1)]
+BAD_MANY = tuple(value for value in OTHER_KINDS if value is not None) + (None, 0, 10, -8, "3", (3,), [3], 3 * (1,))

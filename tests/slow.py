@@ -317,3 +317,108 @@ def bound(many, rules, prices, payments):
         return sum(payment * rule.count(want) for rule, payment in zip(rules, payments))
     taken = [max(gets((place, 0)), gets((place, 1)) - 2 * prices[place]) for place in range(many)]
     return sum(payments) - sum(taken)
+
+
+def least_half_rows(many, rules, prices):
+    """All half rows that keep rules and cost the least, ascending."""
+    found = half_rows(many, rules)
+    least = min(price(prices, halves) for halves in found)
+    return sorted(halves for halves in found if price(prices, halves) == least)
+
+
+def whole(halves):
+    """The wants that have 2 halves in a half row."""
+    return [(place, many // 2) for place, many in enumerate(halves) if many != 1]
+
+
+def broken(row, rules):
+    return [rule for rule in rules if not keeps_rule(row, rule)]
+
+
+def least_left_out(many, rules):
+    """By all lots of rules, the smallest ones first."""
+    for some in subsets(rules):
+        if kept(many, [rule for rule in rules if rule not in some]):
+            return some
+    return None
+
+
+def place_pairs(many):
+    return [(one, other) for one in range(many) for other in range(many) if one < other]
+
+
+def rows_fitting(many, tables):
+    return [row for row in rows(many) if all((row[one], row[other]) in pairs for one, other, pairs in tables)]
+
+
+def filled(many, tables):
+    full = {places: ((0, 0), (0, 1), (1, 0), (1, 1)) for places in place_pairs(many)}
+    full.update({(one, other): pairs for one, other, pairs in tables})
+    return tuple((one, other, full[one, other]) for one, other in sorted(full))
+
+
+def lets(tables, one, other, first, second):
+    """Whether full tables let a value of one place with a value of another one."""
+    for lesser, greater, pairs in tables:
+        if (lesser, greater) == (one, other) and (first, second) in pairs:
+            return True
+        if (lesser, greater) == (other, one) and (second, first) in pairs:
+            return True
+    return False
+
+
+def lacks(many, full):
+    """All (one, other, pair, third) such that a pair that full tables let lacks at a third place."""
+    found = []
+    for one, other in place_pairs(many):
+        for first, second in product((0, 1), repeat=2):
+            for third in range(many):
+                if third in (one, other) or not lets(full, one, other, first, second):
+                    continue
+                values = [
+                    value for value in (0, 1)
+                    if lets(full, one, third, first, value) and lets(full, other, third, second, value)]
+                if not values:
+                    found.append((one, other, (first, second), third))
+    return found
+
+
+def without_pairs(tables, gone):
+    """Tables without some (one, other, pair)."""
+    return tuple(
+        (one, other, tuple(pair for pair in pairs if (one, other, pair) not in gone)) for one, other, pairs in tables)
+
+
+def table_laps(many, tables):
+    left = filled(many, tables)
+    laps = []
+    while lacks(many, left):
+        laps.append(tuple(sorted({lack[:3] for lack in lacks(many, left)})))
+        left = without_pairs(left, laps[-1])
+    return laps
+
+
+def closed_tables(many, tables):
+    gone = [thing for lap in table_laps(many, tables) for thing in lap]
+    return without_pairs(filled(many, tables), gone)
+
+
+def parts(many):
+    """All parts of rows."""
+    return list(product((None, 0, 1), repeat=many))
+
+
+def goes_with(row, part):
+    return all(known in (None, value) for known, value in zip(part, row))
+
+
+def stands(tables, part):
+    """Point 47 word by word: first each place for itself, then each two places."""
+    for place, value in enumerate(part):
+        for one, other, pairs in tables:
+            if value is not None and one == place and value not in [first for first, _ in pairs]:
+                return False
+            if value is not None and other == place and value not in [second for _, second in pairs]:
+                return False
+    return all(
+        part[one] is None or part[other] is None or (part[one], part[other]) in pairs for one, other, pairs in tables)

@@ -5,8 +5,9 @@ import unittest
 from itertools import product
 
 from middlerows import (
-    cheaprows, cubes, errors, fewest, flips, following, gaps, lean, lots, middles, nearest, payments, playpapers,
-    questions, rulechanges, rules, settled, tellings, turns, verdicts, walks)
+    brokenrules, cheaprows, cubes, errors, fewest, flips, following, gaps, goingon, halfrows, lean, lots, middles,
+    nearest, pairs, payments, playpapers, questions, rulechanges, rules, settled, tellings, threes, turns, verdicts,
+    walks)
 from middlerows.rules import Rules
 
 THIRTEEN = tuple((0,) * place + (1,) + (0,) * (7 - place) for place in range(7, -1, -1)) + tuple(
@@ -20,6 +21,7 @@ VALUES = (
     ((1, 1), (0, 0)),
     ((0, 0, 0), (0, 1, 1)), (((0, 0), (1, 1)),), ("row", (0, 0, 0)), ("walk", ((0, 1), (1, 1))), ([], {}),
     ("walks", ((0, 1), (0, 0)), ((0, 0), (0, 1))), Rules(7, ()), (None, 0, None), ((0, 0),) * 21,
+    (0,) * 7, ((0, 1, ((0, 0),)),), ((0, 1, ()), (0, 1, ())), (0, 2, (1, 1), 1), (0, None),
     ((0, "first"), (2, "second"), (1, "first")), ((0, "second"),), (0, ("row", (0,)), ("row", (1,))))
 
 # Each function, how many arguments it takes, and the errors that may come, in the order in which they are told.
@@ -70,7 +72,18 @@ FUNCTIONS = (
     (cubes.crossing, 1, "NoRules"), (cubes.cubes, 1, "NoRules"), (cheaprows.cheapest, 2, "NoRules BadPrices"),
     (cheaprows.all_cheapest, 2, "NoRules BadPrices"), (cheaprows.dearest_one, 3, "NoRules BadPrices BadPlace"),
     (payments.payment_bound, 3, "NoRules BadPrices BadPayments"), (payments.payments_for, 2, "NoRules BadPrices"),
-    (payments.shows_payments, 4, "NoRules BadPrices BadHalves"),
+    (payments.shows_payments, 4, "NoRules BadPrices BadHalves"), (halfrows.keeps_halves, 2, "NoRules"),
+    (halfrows.half_cost, 3, "NoRules BadPrices BadHalves"), (halfrows.least_half_cost, 2, "NoRules BadPrices"),
+    (halfrows.half_rows, 2, "NoRules BadPrices TooMany"), (halfrows.whole_wants, 2, "NoRules BadPrices"),
+    (halfrows.staying, 3, "NoRules BadPrices BadHalves NotLeast"), (halfrows.all_halves, 2, "NoRules BadPrices"),
+    (halfrows.gap, 2, "NoRules BadPrices"), (brokenrules.broken_by, 2, "NoRules BadRow"),
+    (brokenrules.fewest_broken, 1, "NoRules"), (brokenrules.all_fewest, 1, "NoRules"),
+    (brokenrules.least_left_out, 1, "NoRules"), (pairs.fits_tables, 3, "BadMany BadTables BadRow"),
+    (pairs.rows_fitting, 2, "BadMany BadTables"), (pairs.rules_by, 2, "BadMany BadTables"),
+    (pairs.tables_of, 1, "BadLot"), (pairs.filled, 2, "BadMany BadTables"),
+    (threes.closed_tables, 2, "BadMany BadTables"), (threes.table_laps, 2, "BadMany BadTables"),
+    (threes.first_lack, 2, "BadMany BadTables"), (threes.shows_lack, 3, "BadMany BadTables"),
+    (goingon.stands, 3, "BadMany BadTables BadPart"), (goingon.goes_on, 3, "BadMany BadTables BadPart"),
 )
 
 

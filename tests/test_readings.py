@@ -1,0 +1,85 @@
+"""Point 53: what files tell together."""
+
+import unittest
+
+from middlerows.brokenrules import all_fewest, fewest_broken, least_left_out
+from middlerows.cheaprows import cheapest
+from middlerows.following import all_following
+from middlerows.goingon import goes_on
+from middlerows.lots import by_pictures, pictures_of, rules_told
+from middlerows.middles import is_closed
+from middlerows.nearest import flips_to, nearest
+from middlerows.pairs import rows_fitting, rules_by, tables_of
+from middlerows.questions import fewest_questions, question_plan
+from middlerows.rules import rows_of
+from middlerows.tellings import telling_sizes
+from middlerows.threes import closed_tables, first_lack
+from middlerows.turns import wins
+from middlerows.verdicts import verdict
+from tests import slow
+from tests.samples import all_small_rules, few_rules, nobodys_rules, some_rules
+
+RULES = all_small_rules()[::3] + few_rules() + some_rules(4, 25, 9, seed=13) + nobodys_rules()[:4]
+
+
+class TestLots(unittest.TestCase):
+    def test_the_rows_are_a_closed_lot_and_its_rules_all_follow(self):
+        for rules in RULES:
+            lot = tuple(rows_of(rules))
+            if lot:
+                self.assertIs(is_closed(lot), True)
+                self.assertEqual(rules_told(lot).rules, all_following(rules))
+
+    def test_its_pictures_let_just_it_and_are_closed(self):
+        for rules in RULES:
+            lot = tuple(rows_of(rules))
+            if not lot:
+                continue
+            tables = tables_of(lot)
+            self.assertEqual(by_pictures(lot), lot)
+            self.assertEqual((closed_tables(rules.many, tables), first_lack(rules.many, tables)), (tables, None))
+            for one, other, let in tables:
+                self.assertEqual(let, pictures_of(lot, one, other))
+            # One place has no pictures of two unlike places.
+            if rules.many > 1:
+                self.assertEqual(tuple(rows_fitting(rules.many, tables)), lot)
+                self.assertEqual(tuple(rows_of(rules_by(rules.many, tables))), lot)
+                self.assertEqual(goes_on(rules.many, tables, (None,) * rules.many), lot[0])
+
+
+class TestPlaysAndPlans(unittest.TestCase):
+    def test_if_all_places_are_the_first_players(self):
+        for rules in RULES:
+            turns = tuple((place, "first") for place in range(rules.many))
+            self.assertEqual(wins(rules, turns), "first" if rows_of(rules) else "second")
+
+    def test_a_plan_leads_each_row_to_itself(self):
+        for rules in RULES:
+            for row in rows_of(rules):
+                plan = question_plan(rules)
+                asked = 0
+                while plan[0] != "row":
+                    plan = plan[1 + row[plan[0]]]
+                    asked += 1
+                self.assertEqual(plan, ("row", row))
+                self.assertLessEqual(asked, fewest_questions(rules))
+            if rows_of(rules):
+                self.assertGreaterEqual(fewest_questions(rules), max(telling_sizes(rules)))
+
+
+class TestPricesAndBrokenRules(unittest.TestCase):
+    def test_with_the_price_1_everywhere_the_nearest_to_the_row_of_0s(self):
+        for rules in RULES:
+            noughts = (0,) * rules.many
+            pair = cheapest(rules, (1,) * rules.many)
+            due = (flips_to(rules, noughts), nearest(rules, noughts)) if rows_of(rules) else None
+            self.assertEqual(pair, due)
+
+    def test_the_fewest_broken_rules_are_none_just_if_the_verdict_is_a_row(self):
+        for rules in RULES:
+            many, row = fewest_broken(rules)
+            self.assertIs(many == 0, verdict(rules)[0] == "row")
+            self.assertEqual(many, len(least_left_out(rules)))
+            if many == 0:
+                self.assertEqual(("row", row), verdict(rules))
+                self.assertEqual(all_fewest(rules), slow.kept(rules.many, rules.rules))
