@@ -194,10 +194,59 @@ BAD_TABLES = [(value, None) for value in OTHER_KINDS if not isinstance(value, tu
     (TABLES + ((1, 2, ((0, 0),)),), 2), (TABLES + ((0, 2, ((0, 0),)),), 2), (TABLES + (None,), 2),
     ((TABLES[0], list(TABLES[1])), 1), ((TABLES[0], TABLES[1][:2]), 1), ((TABLES[0], TABLES[1] + ((),)), 1),
     (((0, 3, ()),), 0), (((-1, 1, ()),), 0), (((1, 0, ()),), 0), (((1, 1, ()),), 0), (((0, True, ()),), 0),
-    (((False, 1, ()),), 0), (((0, "1", ()),), 0), (((None, 1, ()),), 0), (((0, (1,), ()),), 0), (((0, 10 ** 30, ()),), 0),
+    (((False, 1, ()),), 0), (((0, "1", ()),), 0), (((None, 1, ()),), 0), (((0, (1,), ()),), 0),
+    (((0, 10 ** 30, ()),), 0),
     (((0, 1, None),), 0), (((0, 1, [(0, 0)]),), 0), (((0, 1, {}),), 0), (((0, 1, "01"),), 0), (((0, 1, (0, 0)),), 0),
     (((0, 1, ((0, 1), (0, 0))),), 0), (((0, 1, ((0, 0), (0, 0))),), 0), (((0, 1, ((0, 2),)),), 0),
     (((0, 1, ((0, True),)),), 0), (((0, 1, ((False, 0),)),), 0), (((0, 1, ((0,),)),), 0), (((0, 1, ((0, 0, 0),)),), 0),
     (((0, 1, ([0, 0],)),), 0), (((0, 1, ((0, None),)),), 0), (((0, 1, ((0, -1),)),), 0), (((0, 1, ("00",)),), 0),
     ((TABLES[0], (1, 2, ((0, 0), (1, 2)))), 1), ((TABLES[0], (1, 3, ())), 1), ((TABLES[0], (0, 1, ()), None), 1)]
 BAD_MANY = tuple(value for value in OTHER_KINDS if value is not None) + (None, 0, 10, -8, "3", (3,), [3], 3 * (1,))
+
+
+def some_log(chance, many, length):
+    """A log of so many entries at the most, of all kinds."""
+    log, told, lost = [], [], 0
+    for _ in range(length):
+        word = chance.choice(("told", "told", "back", "seen", "seen", "seen", "turned", "turned", "lost"))
+        if word == "told":
+            rule = chance.choice(slow.rules_of_places(many))
+            if rule not in told:
+                told.append(rule)
+                log.append(("told", rule))
+        elif word == "back" and told:
+            log.append(("back", told.pop(chance.randrange(len(told)))))
+        elif word == "seen":
+            log.append(("seen", chance.choice(slow.wants(many))))
+        elif word == "turned":
+            log.append(("turned", chance.randrange(many)))
+        elif word == "lost" and lost < 4:
+            lost += 1
+            log.append(("lost",))
+    return tuple(log)
+
+
+def some_logs(many, how_many, seed=1):
+    """So many pairs of Rules and a log: the same ones in each run."""
+    chance = random.Random(8000 * many + seed)
+    return [
+        (rules, some_log(chance, many, chance.choice((0, 1, 2, 3, 4, 5, 6, 8, 10, 12))))
+        for rules in some_rules(many, how_many, 3, seed=seed + 20)]
+
+
+def many_logs():
+    return some_logs(1, 60) + some_logs(2, 150) + some_logs(3, 120) + some_logs(4, 25)
+
+
+def some_votes(rules, how_many, numbers, seed=1):
+    """So many votes, in such numbers of rows that keep rules: the same ones in each run."""
+    chance = random.Random(9000 * rules.many + len(rules.rules) + seed)
+    rows = slow.kept(rules.many, rules.rules)
+    return [tuple(chance.choice(rows) for _ in range(chance.choice(numbers))) for _ in range(how_many)]
+
+
+def rules_with_rows():
+    """Rules that some rows keep, of one place to four."""
+    some = all_small_rules()[::9] + some_rules(3, 30, 5, seed=15) + some_rules(4, 15, 5, seed=15)
+    some += tied_rules(3, 8, seed=15) + [Rules(3, ()), Rules(4, ())]
+    return [rules for rules in some if slow.kept(rules.many, rules.rules)]

@@ -422,3 +422,117 @@ def stands(tables, part):
                 return False
     return all(
         part[one] is None or part[other] is None or (part[one], part[other]) in pairs for one, other, pairs in tables)
+
+
+def kept_tables(many, tables, places):
+    """The full tables of some places, counted anew, of the pairs there of all rows that fit."""
+    found = {(one, other): set() for one, other in place_pairs(len(places))}
+    for row in rows_fitting(many, tables):
+        for one, other in found:
+            found[one, other].add((row[places[one]], row[places[other]]))
+    return tuple((one, other, tuple(sorted(found[one, other]))) for one, other in sorted(found))
+
+
+def joined_tables(many, one, more, other, shared):
+    """By all pairs of values of all two places: which pictures are there, and which pairs all of them let."""
+    found = []
+    for lesser, greater in place_pairs(many + more - shared):
+        pictures = [pairs for first, second, pairs in one if (first, second) == (lesser, greater)]
+        pictures += [
+            pairs for first, second, pairs in other
+            if (first + many - shared, second + many - shared) == (lesser, greater)]
+        if pictures:
+            let = [pair for pair in product((0, 1), repeat=2) if all(pair in pairs for pairs in pictures)]
+            found.append((lesser, greater, tuple(let)))
+    return tuple(found)
+
+
+def goes(entry, one, other):
+    """Whether one row can stand ahead of an entry, and other behind it, whichever rules are told."""
+    if entry[0] == "lost":
+        return apart(one, other) == 1
+    if entry[0] == "turned":
+        return apart(one, other) == 1 and one[entry[1]] != other[entry[1]]
+    return one == other and (entry[0] != "seen" or has(one, entry[1]))
+
+
+def rules_told_at(rules, log):
+    """At first, and behind each entry: the rules, and those that are told and not taken back."""
+    told = list(rules)
+    found = [list(told)]
+    for entry in log:
+        if entry[0] == "told":
+            told.append(entry[1])
+        if entry[0] == "back":
+            told.reverse()
+            told.remove(entry[1])
+            told.reverse()
+        found.append(list(told))
+    return found
+
+
+def runs(many, rules, log):
+    """All runs of a log, ascending, by lengthening runs by all rows."""
+    at = rules_told_at(rules, log)
+    found = [(row,) for row in kept(many, at[0])]
+    for entry, some in zip(log, at[1:]):
+        now = kept(many, some)
+        found = [run + (row,) for run in found for row in now if goes(entry, run[-1], row)]
+    return sorted(found)
+
+
+def doubted(many, rules, log):
+    """By all lots of entries that were seen, the smallest ones first."""
+    seen = [index for index, entry in enumerate(log) if entry[0] == "seen"]
+    for some in subsets(seen):
+        if runs(many, rules, tuple(entry for index, entry in enumerate(log) if index not in some)):
+            return some
+    return None
+
+
+def wants_of_all(some):
+    """The wants that all of some rows have."""
+    return tuple(want for want in wants(len(some[0])) if all(has(row, want) for row in some))
+
+
+def most(votes):
+    """The row of most of an odd number of votes."""
+    return tuple(1 if sum(values) > len(votes) - sum(values) else 0 for values in zip(*votes))
+
+
+def total(votes, row):
+    return sum(apart(vote, row) for vote in votes)
+
+
+def duel(votes, one, other):
+    nearer = [vote for vote in votes if apart(vote, one) < apart(vote, other)]
+    nearer_other = [vote for vote in votes if apart(vote, other) < apart(vote, one)]
+    return (len(nearer), len(nearer_other))
+
+
+def beaters(some, votes, row):
+    """The rows of some that beat a row."""
+    found = []
+    for other in some:
+        mine, others = duel(votes, row, other)
+        if others > mine:
+            found.append(other)
+    return found
+
+
+def crossing(some, one, other):
+    return {(row[one], row[other]) for row in some} == set(product((0, 1), repeat=2))
+
+
+def three_cross(many, some):
+    """Whether three places cross two by two in some rows."""
+    return any(all(crossing(some, *two) for two in combinations(three, 2)) for three in combinations(range(many), 3))
+
+
+def tied(many, some):
+    """Whether two places are tied in some rows: both have both values, alike in all of them, or unlike in all."""
+    found = []
+    for one, other in place_pairs(many):
+        pairs = {(row[one], row[other]) for row in some}
+        found.append(pairs == {(0, 0), (1, 1)} or pairs == {(0, 1), (1, 0)})
+    return any(found)

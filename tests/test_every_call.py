@@ -5,9 +5,10 @@ import unittest
 from itertools import product
 
 from middlerows import (
-    brokenrules, cheaprows, cubes, errors, fewest, flips, following, gaps, goingon, halfrows, lean, lots, middles,
-    nearest, pairs, payments, playpapers, questions, rulechanges, rules, settled, tellings, threes, turns, verdicts,
-    walks)
+    brokenrules, cheaprows, cubes, duels, errors, fewest, flips, following, gaps, goingon, halfrows, joinings, lean,
+    logs, lots, middles, nearest, pairs, payments, playpapers, questions, rulechanges, rules, settled, tellings, texts,
+    threes, turns, verdicts, votes, walks)
+from middlerows.desks import Desk
 from middlerows.rules import Rules
 
 THIRTEEN = tuple((0,) * place + (1,) + (0,) * (7 - place) for place in range(7, -1, -1)) + tuple(
@@ -21,8 +22,21 @@ VALUES = (
     ((1, 1), (0, 0)),
     ((0, 0, 0), (0, 1, 1)), (((0, 0), (1, 1)),), ("row", (0, 0, 0)), ("walk", ((0, 1), (1, 1))), ([], {}),
     ("walks", ((0, 1), (0, 0)), ((0, 0), (0, 1))), Rules(7, ()), (None, 0, None), ((0, 0),) * 21,
-    (0,) * 7, ((0, 1, ((0, 0),)),), ((0, 1, ()), (0, 1, ())), (0, 2, (1, 1), 1), (0, None),
+    (0,) * 7, ((0, 1, ((0, 0),)),), ((0, 1, ()), (0, 1, ())), (0, 2, (1, 1), 1), (0, None), 3, ((0, 1, 1),),
+    Rules(2, (((0, 0), (1, 1)), ((0, 1), (1, 0)))), (("seen", (0, 0)), ("lost",), ("turned", 0)),
+    (("told", ((0, 0), (1, 1))), ("back", ((0, 0), (1, 1)))), (("lost",), ("back", ((0, 0), (1, 1)))),
+    "places 2\nrule 0 no 1 yes", (((0, 0, 0),), (0, 1, 1)), ((0, 0, 0), (0, 0, 1)),
     ((0, "first"), (2, "second"), (1, "first")), ((0, "second"),), (0, ("row", (0,)), ("row", (1,))))
+
+
+def deed(name):
+    """A function of rules and a thing, that does one deed with it at a desk, and tells what comes of it."""
+    def done(some, thing):
+        desk = Desk(some)
+        answer = getattr(desk, name)(thing)
+        return (answer, desk.own_rules, len(desk), desk.row(), desk.undo(), desk.own_rules, desk.redo(), desk.redo())
+    return done
+
 
 # Each function, how many arguments it takes, and the errors that may come, in the order in which they are told.
 FUNCTIONS = (
@@ -84,6 +98,20 @@ FUNCTIONS = (
     (threes.closed_tables, 2, "BadMany BadTables"), (threes.table_laps, 2, "BadMany BadTables"),
     (threes.first_lack, 2, "BadMany BadTables"), (threes.shows_lack, 3, "BadMany BadTables"),
     (goingon.stands, 3, "BadMany BadTables BadPart"), (goingon.goes_on, 3, "BadMany BadTables BadPart"),
+    (joinings.kept_tables, 3, "BadMany BadTables BadPlaces"),
+    (joinings.joined_tables, 5, "BadMany BadTables BadShared TooWide"), (logs.rows_behind, 2, "NoRules BadLog"),
+    (logs.start_rows, 2, "NoRules BadLog"), (logs.count_runs, 2, "NoRules BadLog"),
+    (logs.first_run, 2, "NoRules BadLog"), (logs.log_against, 2, "NoRules BadLog"),
+    (logs.shows_run, 3, "NoRules BadLog"), (logs.sure_at, 3, "NoRules BadLog BadAt"),
+    (logs.doubted, 2, "NoRules BadLog"), (texts.write, 1, "NoRules"), (texts.read, 1, "NoText InvalidText"),
+    (deed("tell"), 2, "NoRules BadRule Already"), (deed("take_back"), 2, "NoRules BadRule NotThere"),
+    (deed("gone"), 2, "NoRules BadRule NotThere"), (deed("settle"), 2, "NoRules BadRow"),
+    (votes.total_steps, 3, "NoRules BadVotes BadRow NotKept"), (votes.least_totals, 2, "NoRules BadVotes"),
+    (votes.most_row, 2, "NoRules BadVotes EvenVotes"), (votes.may_become, 3, "NoRules BadVotes EvenVotes BadIndex"),
+    (votes.sure_of_most, 3, "NoRules BadVotes BadAll"), (duels.duel, 4, "NoRules BadVotes BadRow NotKept"),
+    (duels.beaters, 3, "NoRules BadVotes BadRow NotKept"), (duels.unbeaten, 2, "NoRules BadVotes"),
+    (duels.never_beaten, 1, "NoRules NotStraight"), (duels.beaten_paper, 1, "NoRules NotStraight"),
+    (duels.shows_beaten, 2, "NoRules"),
 )
 
 
@@ -91,7 +119,12 @@ def arguments(many):
     """Values of all kinds for so many arguments: all of them for one and two, fewer for more."""
     if many <= 2:
         return product(VALUES, repeat=many)
-    some = VALUES[:2] + VALUES[4:10] + VALUES[16:25:2] + ((0, 1, 1), ()) + VALUES[-3:-1]
+    if many == 5:
+        tables = ((), ((0, 1, ((0, 0),)),), None)
+        return list(product((2, 8, True), tables, (2, 3, None), tables, VALUES))
+    some = VALUES[:2] + VALUES[4:10] + VALUES[16:25:2] + ((0, 1, 1), (), ((0, 1, 1),)) + VALUES[-3:-1]
+    if many == 3:
+        some += ((("lost",),), ((0, 0, 0), (0, 1, 1)))
     heads = list(product(some, repeat=many - 1))
     return [head + (value,) for head in heads for value in VALUES[::1 if many == 3 else 3]]
 

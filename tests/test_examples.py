@@ -1,10 +1,13 @@
-"""Each example of the interface, as examples.txt tells it: a call, and what it answers or raises."""
+"""Each example of the interface, as examples.txt tells it: a call, and what it answers or raises; and those of README."""
 
 import ast
+import builtins
+import doctest
 import unittest
 from pathlib import Path
 
 EXAMPLES = Path(__file__).with_name("examples.txt")
+README = Path(__file__).parent.parent / "README.md"
 
 
 def blocks():
@@ -41,3 +44,10 @@ class TestExamples(unittest.TestCase):
                         exec(compile(ast.parse(call), heading, "exec"), names)
                     else:
                         self.assertEqual(answer_of(call, names), answer)
+
+    def test_readme(self):
+        # What is shown last stays there as _, which other tests would take for a builtin.
+        self.addCleanup(vars(builtins).pop, "_", None)
+        failed, tried = doctest.testfile(str(README), module_relative=False)
+        self.assertEqual(failed, 0)
+        self.assertGreater(tried, 0)

@@ -1,11 +1,15 @@
 """Point 53: what files tell together."""
 
+import random
 import unittest
 
 from middlerows.brokenrules import all_fewest, fewest_broken, least_left_out
 from middlerows.cheaprows import cheapest
+from middlerows.desks import Desk
+from middlerows.flips import count_ways, steps_apart
 from middlerows.following import all_following
 from middlerows.goingon import goes_on
+from middlerows.logs import count_runs, rows_behind, start_rows
 from middlerows.lots import by_pictures, pictures_of, rules_told
 from middlerows.middles import is_closed
 from middlerows.nearest import flips_to, nearest
@@ -83,3 +87,52 @@ class TestPricesAndBrokenRules(unittest.TestCase):
             if many == 0:
                 self.assertEqual(("row", row), verdict(rules))
                 self.assertEqual(all_fewest(rules), slow.kept(rules.many, rules.rules))
+
+
+class TestLogs(unittest.TestCase):
+    def test_rules_told_and_wants_seen_have_the_rows_of_all_these_together(self):
+        chance = random.Random(53)
+        found = []
+        for rules in RULES:
+            some = chance.sample(slow.rules_of_places(rules.many), chance.randrange(1, 3))
+            seen = chance.sample(slow.wants(rules.many), chance.randrange(3))
+            log = [("told", rule) for rule in some] + [("seen", want) for want in seen]
+            chance.shuffle(log)
+            due = slow.kept(rules.many, list(rules.rules) + some + [(want, want) for want in seen])
+            found.append(len(due))
+            for answer in (rows_behind, start_rows):
+                self.assertEqual(answer(rules, tuple(log)), due)
+            self.assertEqual(count_runs(rules, tuple(log)), len(due))
+        self.assertGreater(len([many for many in found if many > 1]), 20)
+
+    def test_lost_flips_have_as_many_runs_as_there_are_shortest_ways(self):
+        tried = []
+        for rules in RULES:
+            rows = rows_of(rules)
+            for one in rows[::2]:
+                for other in rows:
+                    steps = steps_apart(rules, one, other)
+                    if steps is None or steps > 4:
+                        continue
+                    log = tuple(("seen", want) for want in enumerate(one)) + (("lost",),) * steps
+                    log += tuple(("seen", want) for want in enumerate(other))
+                    self.assertEqual(count_runs(rules, log), count_ways(rules, one, other))
+                    tried.append(steps)
+        for steps in range(5):
+            self.assertIn(steps, tried)
+
+
+class TestDesks(unittest.TestCase):
+    def test_rules_that_follow_can_be_told_and_taken_back_and_the_rows_stay(self):
+        for rules in RULES[::2]:
+            desk = Desk(rules)
+            rows = rows_of(rules)
+            more = [rule for rule in all_following(rules) if rule not in rules.rules]
+            for rule in more:
+                desk.tell(rule)
+                self.assertEqual((rows_of(desk.own_rules), desk.gone(rule)), (rows, True))
+            self.assertEqual(desk.own_rules.rules, all_following(rules))
+            for rule in more:
+                desk.take_back(rule)
+                self.assertEqual(rows_of(desk.own_rules), rows)
+            self.assertEqual((desk.own_rules, len(desk)), (rules, 2 * len(more)))

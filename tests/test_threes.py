@@ -10,7 +10,8 @@ from tests import slow
 from tests.samples import (
     BAD_MANY, BAD_TABLES, OTHER_KINDS, TABLES, changed, few_tables, many_lots, many_tables, wide_tables)
 
-CALLS = ((closed_tables, ()), (table_laps, ()), (first_lack, ()), (shows_lack, ((0, 2, (1, 1), 1),)), (shows_lack, ("",)))
+CALLS = (
+    (closed_tables, ()), (table_laps, ()), (first_lack, ()), (shows_lack, ((0, 2, (1, 1), 1),)), (shows_lack, ("",)))
 # Eight places, each like the next one: laps lead on to places further and further apart.
 ALIKE = tuple((place, place + 1, ((0, 0), (1, 1))) for place in range(7))
 UNLIKE = ALIKE[:1] + ((0, 7, ((0, 1), (1, 0))),) + ALIKE[1:]
